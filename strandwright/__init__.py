@@ -1,0 +1,1 @@
+"""Strands of beads, cut and joined by as few deeds as can be."""

@@ -1,0 +1,121 @@
+"""Sets and lines to test with: all small ones, some large ones, and things that are neither."""
+
+import itertools
+import random
+
+
+def names(count):
+    letters = "abcdefghijklmnopqrstuvwxyz"
+    some = [letters[k % 26] * (1 + k // 26) for k in range(count)]
+    return some
+
+
+def matchings(ends):
+    """All ways to match some of the ends in pairs, the others left alone."""
+    if not ends:
+        yield ()
+        return
+    head, rest = ends[0], ends[1:]
+    for tail in matchings(rest):
+        yield ((head,),) + tail
+    for k, mate in enumerate(rest):
+        for tail in matchings(rest[:k] + rest[k + 1:]):
+            yield ((head, mate),) + tail
+
+
+def strands_by_order(beads):
+    """All sets with the placed beads in this order, cut anywhere, each strand of both kinds."""
+    for cuts in itertools.product((False, True), repeat=max(0, len(beads) - 1)):
+        runs = [[]]
+        for k, bead in enumerate(beads):
+            if k and cuts[k - 1]:
+                runs.append([])
+            runs[-1].append(bead)
+        runs = [tuple(run) for run in runs if run]
+        for kinds in itertools.product(("open", "ring"), repeat=len(runs)):
+            yield tuple(zip(kinds, runs))
+
+
+def all_written(some_names):
+    """All sets of just these names, in each way in which they can be written."""
+    found = set()
+    for order in itertools.permutations(some_names):
+        for signs in itertools.product(("", "-"), repeat=len(order)):
+            beads = [sign + name for sign, name in zip(signs, order)]
+            found.update(strands_by_order(beads))
+    return sorted(found)
+
+
+def large_set(seed, count=40):
+    chance = random.Random(seed)
+    beads = names(count)
+    chance.shuffle(beads)
+    beads = [chance.choice(("", "-")) + bead for bead in beads]
+    strands = []
+    while beads:
+        size = chance.randint(1, 9)
+        strands.append((chance.choice(("open", "ring")), tuple(beads[:size])))
+        beads = beads[size:]
+    return tuple(strands)
+
+
+def mirror(bead):
+    return bead[1:] if bead[0] == "-" else "-" + bead
+
+
+def mirror_all(beads):
+    return tuple(mirror(bead) for bead in beads[::-1])
+
+
+def looks(strand):
+    """All ways in which one strand can be written."""
+    kind, beads = strand
+    found = []
+    for side in (beads, mirror_all(beads)):
+        if kind == "open":
+            found.append((kind, side))
+        else:
+            found.extend((kind, side[k:] + side[:k]) for k in range(len(side)))
+    return found
+
+
+def same_by_matching(one, other):
+    """Point 6, word by word: strands matched one to one."""
+    left = list(other)
+    for strand in one:
+        mates = [mate for mate in left if mate in looks(strand)]
+        if not mates:
+            return False
+        left.remove(mates[0])
+    return not left
+
+
+def rewritten(some, seed):
+    """The same set, each strand written otherwise, the strands in another order."""
+    chance = random.Random(seed)
+    strands = [chance.choice(looks(strand)) for strand in some]
+    chance.shuffle(strands)
+    return tuple(strands)
+
+
+class Stubborn:
+    """A thing that can't be compared, measured, walked or hashed."""
+
+    __hash__ = None
+
+    def __eq__(self, other):
+        raise RuntimeError("compared")
+
+    def __bool__(self):
+        raise RuntimeError("asked for its truth")
+
+    def __len__(self):
+        raise RuntimeError("measured")
+
+    def __iter__(self):
+        raise RuntimeError("walked")
+
+
+NO_TEXTS = (
+    None, True, False, 0, 1, -7, 1.5, b"a", b"", [], ["a"], (), ("a",), {}, {"a": 1}, {"a"}, object(), Stubborn(),
+)
