@@ -36,12 +36,20 @@ def is_deed(thing):
     return (sizes(gone), sizes(come)) in FORMS and gone != come
 
 
-def done(some, deed):
-    joints = joints_of(some)
+def refuse_undoable(joints, deed):
     if not is_deed(deed) or not all([joint in joints for joint in deed[0]]):
         raise NoDeed()
-    stay = tuple([joint for joint in joints if joint not in deed[0]])
-    return set_of(stay + deed[1])
+
+
+def put_in_place(joints, deed):
+    stay = [joint for joint in joints if joint not in deed[0]]
+    return tuple(sorted(stay + list(deed[1])))
+
+
+def done(some, deed):
+    joints = joints_of(some)
+    refuse_undoable(joints, deed)
+    return set_of(put_in_place(joints, deed))
 
 
 def back(deed):

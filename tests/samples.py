@@ -3,6 +3,9 @@
 import itertools
 import random
 
+from strandwright.deeds import deeds_from, done
+from strandwright.joints import set_of
+
 
 def names(count):
     letters = "abcdefghijklmnopqrstuvwxyz"
@@ -21,6 +24,43 @@ def matchings(ends):
     for k, mate in enumerate(rest):
         for tail in matchings(rest[:k] + rest[k + 1:]):
             yield ((head, mate),) + tail
+
+
+def all_sets(count):
+    """All sets of so many beads, as canons."""
+    return [set_of(joints) for joints in matchings(tuple(itertools.product(names(count), (0, 1))))]
+
+
+def all_small():
+    for count in (0, 1, 2, 3):
+        yield from all_sets(count)
+
+
+def all_behind(sets):
+    """From each set to all pairs of a deed that can be done in it and the set behind it."""
+    return {some: [(deed, done(some, deed)) for deed in deeds_from(some)] for some in sets}
+
+
+def rows_from(start, behind):
+    """By a plain search over all rows: from each set that can be come to, to the fewest deeds and the count of rows."""
+    found = {start: (0, 1)}
+    here = [start]
+    while here:
+        fresh = {}
+        for some in here:
+            fewest, count = found[some]
+            for deed, other in behind[some]:
+                if other not in found:
+                    fresh[other] = (fewest + 1, fresh.get(other, (0, 0))[1] + count)
+        found.update(fresh)
+        here = list(fresh)
+    return found
+
+
+def set_behind(some, row):
+    for deed in row:
+        some = done(some, deed)
+    return some
 
 
 def strands_by_order(beads):
@@ -118,4 +158,36 @@ class Stubborn:
 
 NO_TEXTS = (
     None, True, False, 0, 1, -7, 1.5, b"a", b"", [], ["a"], (), ("a",), {}, {"a": 1}, {"a"}, object(), Stubborn(),
+)
+
+
+def parts_by_ties(ours, theirs):
+    """Point 13, word by word: dots, tied two by two until nothing more comes together."""
+    dots = [(True, joint) for joint in ours] + [(False, joint) for joint in theirs]
+    heaps = {dot: [dot] for dot in dots}
+    for mine, joint in dots:
+        for other, mate in dots:
+            if mine != other and set(joint) & set(mate) and heaps[mine, joint] is not heaps[other, mate]:
+                heap = heaps[mine, joint] + heaps[other, mate]
+                heaps.update((dot, heap) for dot in heap)
+    parts = set()
+    for heap in heaps.values():
+        sides = [tuple(sorted(joint for mine, joint in heap if mine == side)) for side in (True, False)]
+        free = tuple(sum(len(joint) == 1 for joint in side) for side in sides)
+        parts.add(({(0, 0): "ring", (1, 1): "odd", (2, 0): "ours", (0, 2): "theirs"}[free], *sides))
+    return sorted(parts)
+
+
+def long_ring(count):
+    return (("ring", tuple(names(count))),)
+
+
+def rings_alone(count):
+    return tuple(("ring", (name,)) for name in names(count))
+
+
+# Two sets of unlike beads, and the first name, as sorted, that stands in one alone.
+UNLIKE_SETS = (
+    ("[a b]", "[a]", "b"), ("[c] (b)", "[b] (a d)", "a"), ("", "[z y] (x)", "x"), ("[a] [q]", "", "a"),
+    ("[ab a]", "[a aa]", "aa"), ("[c -b]", "[-c a]", "a"), ("(e d c)", "(e d b)", "b"), ("(a) (d)", "(a) [-c b]", "b"),
 )

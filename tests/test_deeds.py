@@ -5,7 +5,7 @@ import samples
 from strandwright.canon import canon
 from strandwright.deeds import back, deeds_from, done, is_deed
 from strandwright.errors import NoDeed
-from strandwright.joints import joints_of, set_of
+from strandwright.joints import joints_of
 from strandwright.texts import read_set, show_set
 
 A0, A1, B0, B1, C0, C1 = ((name, side) for name in "abc" for side in (0, 1))
@@ -13,12 +13,6 @@ CUT = (((A1, B0),), ((A1,), (B0,)))
 JOIN = (((A1,), (B0,)), ((A1, B0),))
 TWO = (((A0, B0), (A1, B1)), ((A0, B1), (A1, B0)))
 THREE = (((A0,), (A1, B1)), ((A0, B1), (A1,)))
-
-
-def all_small():
-    for count in (0, 1, 2, 3):
-        for joints in samples.matchings(tuple(itertools.product(samples.names(count), (0, 1)))):
-            yield set_of(joints)
 
 
 def deeds_by_trial(some):
@@ -103,7 +97,7 @@ class IsDeed(unittest.TestCase):
     def test_just_these_of_all_with_three_ends_or_four(self):
         halves = [tuple(sorted(half)) for size in (1, 2, 3, 4) for ends in itertools.combinations((A0, A1, B0, B1), size)
                   for half in samples.matchings(ends)]
-        deeds = {deed for some in all_small() for deed in deeds_by_trial(some)}
+        deeds = {deed for some in samples.all_small() for deed in deeds_by_trial(some)}
         for deed in itertools.product(halves, halves):
             self.assertIs(is_deed(deed), deed in deeds, deed)
 
@@ -121,7 +115,7 @@ class Done(unittest.TestCase):
             self.assertEqual(told, canon(told))
 
     def test_all_deeds_of_all_small_sets_and_back(self):
-        for some in all_small():
+        for some in samples.all_small():
             joints = set(joints_of(some))
             for deed in deeds_from(some):
                 behind = done(some, deed)
@@ -144,7 +138,7 @@ class Done(unittest.TestCase):
             self.refused(read_set(text), TWO)
 
     def test_just_what_is_told_can_be_done(self):
-        small = [some for some in all_small() if len(joints_of(some)) and "c" not in show_set(some)]
+        small = [some for some in samples.all_small() if len(joints_of(some)) and "c" not in show_set(some)]
         deeds = {deed for some in small for deed in deeds_from(some)}
         for some in small:
             mine = deeds_from(some)
@@ -178,7 +172,7 @@ class DeedsFrom(unittest.TestCase):
         self.assertEqual(len(deeds_from(read_set("[a b]"))), 1 + 1 + 2 * 2)
 
     def test_all_small_sets(self):
-        for some in all_small():
+        for some in samples.all_small():
             told = deeds_from(some)
             self.assertEqual(told, deeds_by_trial(some))
             self.assertTrue(all(is_deed(deed) for deed in told))

@@ -116,6 +116,10 @@ def faults_of_expression(node, own_methods):
         yield node.lineno, "L27 sign"
     if isinstance(node, ast.BinOp) and isinstance(node.op, (ast.Div, ast.MatMult)):
         yield node.lineno, "L7 division"
+    if isinstance(node, (ast.BinOp, ast.AugAssign)) and isinstance(node.op, ast.Pow):
+        written = node.right if isinstance(node, ast.BinOp) else node.value
+        if not isinstance(written, ast.Constant) or written.value not in range(65):
+            yield node.lineno, "L27 exponent"
     if isinstance(node, ast.ListComp) and (len(node.generators) > 1 or len(node.generators[0].ifs) > 1):
         yield node.lineno, "L7 comprehension"
     if isinstance(node, ast.FormattedValue) and (not isinstance(node.value, ast.Name) or node.format_spec):
