@@ -21,3 +21,15 @@ def woven(rows):
     for deeds, ways in rows:
         count = count // product_to(deeds) * ways
     return count
+
+
+def zigzag(most):
+    # Rows of the numbers 1 to most that go up and down by turns, begun by going up: each step adds up the
+    # row of before from its other end.
+    row = [1]
+    for step in range(most):
+        fresh = [0]
+        for number in reversed(row):
+            fresh.append(fresh[-1] + number)
+        row = fresh
+    return row[-1]

@@ -1,4 +1,4 @@
-"""What is refused ahead of all else: things whose beads are unlike."""
+"""What is asked ahead of all else: whether things have the same beads, and whether a set has a ring."""
 
 from strandwright.beads import names_in
 from strandwright.errors import Lacks
@@ -12,3 +12,7 @@ def refuse_lacks(things):
     lacked = [name for name in sorted(count) if count[name] < len(things)]
     if lacked:
         raise Lacks(lacked[0])
+
+
+def has_ring(some):
+    return any([strand[0] == "ring" for strand in some])

@@ -3,8 +3,11 @@
 import itertools
 import random
 
-from strandwright.deeds import deeds_from, done
+from strandwright.canon import canon
+from strandwright.deeds import back, deeds_from, done
+from strandwright.errors import Lacks
 from strandwright.joints import set_of
+from strandwright.texts import read_set
 
 
 def names(count):
@@ -86,7 +89,7 @@ def all_written(some_names):
     return sorted(found)
 
 
-def large_set(seed, count=40):
+def large_set(seed, count=40, kinds=("open", "ring")):
     chance = random.Random(seed)
     beads = names(count)
     chance.shuffle(beads)
@@ -94,9 +97,26 @@ def large_set(seed, count=40):
     strands = []
     while beads:
         size = chance.randint(1, 9)
-        strands.append((chance.choice(("open", "ring")), tuple(beads[:size])))
+        strands.append((chance.choice(kinds), tuple(beads[:size])))
         beads = beads[size:]
     return tuple(strands)
+
+
+def all_lines(some_names):
+    for order in itertools.permutations(some_names):
+        for signs in itertools.product(("", "-"), repeat=len(order)):
+            yield tuple(sign + name for sign, name in zip(signs, order))
+
+
+def large_line(seed, count=40, turns=60, widest=40):
+    """The line of all names in order, with some runs of beads turned about: small ones leave much at rest."""
+    chance = random.Random(seed)
+    line = tuple(names(count))
+    for turn in range(turns):
+        begin = chance.randrange(count)
+        end = min(count, begin + chance.randint(1, widest))
+        line = line[:begin] + mirror_all(line[begin:end]) + line[end:]
+    return line
 
 
 def mirror(bead):
@@ -178,16 +198,38 @@ def parts_by_ties(ours, theirs):
     return sorted(parts)
 
 
-def long_ring(count):
-    return (("ring", tuple(names(count))),)
-
-
-def rings_alone(count):
-    return tuple(("ring", (name,)) for name in names(count))
-
-
 # Two sets of unlike beads, and the first name, as sorted, that stands in one alone.
 UNLIKE_SETS = (
     ("[a b]", "[a]", "b"), ("[c] (b)", "[b] (a d)", "a"), ("", "[z y] (x)", "x"), ("[a] [q]", "", "a"),
     ("[ab a]", "[a aa]", "aa"), ("[c -b]", "[-c a]", "a"), ("(e d c)", "(e d b)", "b"), ("(a) (d)", "(a) [-c b]", "b"),
 )
+
+
+def check_lacks(case, asked, more=()):
+    for one, other, name in UNLIKE_SETS + more:
+        for first, second in ((one, other), (other, one)):
+            with case.assertRaises(Lacks) as taken:
+                asked(read_set(first), read_set(second))
+            case.assertEqual(taken.exception.name, name)
+
+
+def check_own_list(case, asked, *given):
+    """What is done to a list that was told changes nothing of what is told later."""
+    first = asked(*given)
+    whole = list(first)
+    case.assertTrue(whole)
+    first.clear()
+    case.assertEqual(asked(*given), whole)
+
+
+def check_row(case, one, other, row, fewest):
+    """A row of so many deeds from the one to the other, and run back from the other to the one."""
+    case.assertEqual(len(row), fewest)
+    case.assertEqual(set_behind(one, row), canon(other))
+    case.assertEqual(set_behind(other, [back(deed) for deed in row[::-1]]), canon(one))
+
+
+def sets_of_forty():
+    """One ring, one open strand, all beads as rings, and all as open strands."""
+    ring, rings = (("ring", tuple(names(40))),), tuple(("ring", (name,)) for name in names(40))
+    return ring, (("open", ring[0][1]),), rings, tuple(("open", strand[1]) for strand in rings)

@@ -5,7 +5,6 @@ import unittest
 import samples
 from strandwright.canon import canon, renamed
 from strandwright.drawing import drawing, sum_of
-from strandwright.errors import Lacks
 from strandwright.joints import joints_of
 from strandwright.texts import read_set
 
@@ -55,10 +54,9 @@ class Drawing(unittest.TestCase):
         for seed in range(6):
             one, other = samples.large_set(seed), samples.large_set(seed + 50)
             self.assertEqual(drawing(one, other), samples.parts_by_ties(joints_of(one), joints_of(other)))
-        one, other = samples.long_ring(40), samples.rings_alone(40)
-        self.assertEqual(drawing(one, other), [("ring", joints_of(one), joints_of(other))])
-        one = (("open", one[0][1]),)
-        self.assertEqual(drawing(one, other), [("ours", joints_of(one), joints_of(other))])
+        ring, strand, rings, alone = samples.sets_of_forty()
+        self.assertEqual(drawing(ring, rings), [("ring", joints_of(ring), joints_of(rings))])
+        self.assertEqual(drawing(strand, rings), [("ours", joints_of(strand), joints_of(rings))])
 
     def test_however_the_sets_are_written(self):
         for one, other in itertools.product(samples.all_written(["a", "b"]), repeat=2):
@@ -68,18 +66,11 @@ class Drawing(unittest.TestCase):
             self.assertEqual(drawing(samples.rewritten(one, seed), samples.rewritten(other, seed)), drawing(one, other))
 
     def test_beads_that_stand_in_one_alone(self):
-        for one, other, name in samples.UNLIKE_SETS:
-            for first, second in ((one, other), (other, one)):
-                with self.assertRaises(Lacks) as taken:
-                    drawn(first, second)
-                self.assertEqual(taken.exception.name, name)
+        samples.check_lacks(self, drawing)
 
     def test_the_list_is_the_askers_own(self):
         one, other = read_set("[a b] (c)"), read_set("[c -a] [b]")
-        first = drawing(one, other)
-        whole = list(first)
-        first.clear()
-        self.assertEqual(drawing(one, other), whole)
+        samples.check_own_list(self, drawing, one, other)
         self.assertEqual((one, other), (read_set("[a b] (c)"), read_set("[c -a] [b]")))
 
 
@@ -113,8 +104,7 @@ class SumOf(unittest.TestCase):
             self.assertEqual(sum_of(parts), told)
 
     def test_forty_beads(self):
-        ring, rings = samples.long_ring(40), samples.rings_alone(40)
-        strand, alone = (("open", ring[0][1]),), tuple(("open", strand[1]) for strand in rings)
+        ring, strand, rings, alone = samples.sets_of_forty()
         for one, other, told in ((ring, rings, 39), (strand, rings, 40), (alone, rings, 40), (strand, alone, 39),
                                  (ring, alone, 40), (ring, strand, 1), (ring, ring, 0), (alone, alone, 0)):
             self.assertEqual(sum_of(drawing(one, other)), told)

@@ -4,9 +4,9 @@ import unittest
 
 import samples
 from strandwright.canon import canon, renamed
-from strandwright.deeds import back, deeds_from, done
+from strandwright.deeds import deeds_from, done
 from strandwright.drawing import drawing
-from strandwright.errors import Lacks, Mixed
+from strandwright.errors import Mixed
 from strandwright.texts import read_set
 from strandwright.two import fewest_two, firsts_two, row_two, rows_two
 
@@ -49,10 +49,7 @@ class All(unittest.TestCase):
     def test_a_row(self):
         for count in (0, 1, 2, 3):
             for one, other in itertools.product(samples.all_sets(count), repeat=2):
-                row = row_two(one, other)
-                self.assertEqual(len(row), fewest_two(one, other))
-                self.assertEqual(samples.set_behind(one, row), other)
-                self.assertEqual(samples.set_behind(other, [back(deed) for deed in row[::-1]]), one)
+                samples.check_row(self, one, other, row_two(one, other), fewest_two(one, other))
 
     def test_some_sets_of_four(self):
         sets = samples.all_sets(4)
@@ -70,15 +67,12 @@ class Fewest(unittest.TestCase):
             self.assertEqual(fewest_two(read_set(one), read_set(other)), told, (one, other))
 
     def test_forty_beads(self):
-        ring, rings = samples.long_ring(40), samples.rings_alone(40)
-        self.assertEqual(fewest_two(ring, rings), 39)
-        self.assertEqual(fewest_two((("open", ring[0][1]),), rings), 40)
+        ring, strand, rings, alone = samples.sets_of_forty()
+        self.assertEqual([fewest_two(one, rings) for one in (ring, strand, rings, alone)], [39, 40, 0, 40])
         for seed in range(5):
             one, other = samples.large_set(seed), samples.large_set(seed + 50)
-            row = row_two(one, other)
-            self.assertEqual(len(row), fewest_two(one, other))
             self.assertEqual(fewest_two(other, one), fewest_two(one, other))
-            self.assertEqual(samples.set_behind(one, row), canon(other))
+            samples.check_row(self, one, other, row_two(one, other), fewest_two(one, other))
 
 
 class Firsts(unittest.TestCase):
@@ -101,11 +95,7 @@ class Firsts(unittest.TestCase):
     def test_the_list_is_the_askers_own(self):
         one, other = read_set("[a b] (c)"), read_set("[c -a] [b]")
         for asked in (firsts_two, row_two):
-            first = asked(one, other)
-            whole = list(first)
-            self.assertTrue(whole)
-            first.clear()
-            self.assertEqual(asked(one, other), whole)
+            samples.check_own_list(self, asked, one, other)
 
 
 class Rows(unittest.TestCase):
@@ -124,8 +114,7 @@ class Rows(unittest.TestCase):
             self.assertRaises(Mixed, rows_two, other, one)
 
     def test_forty_beads(self):
-        ring, rings = samples.long_ring(40), samples.rings_alone(40)
-        strand, alone = (("open", ring[0][1]),), tuple(("open", strand[1]) for strand in rings)
+        ring, strand, rings, alone = samples.sets_of_forty()
         for one, other, told in ((ring, rings, 40 ** 38), (strand, rings, 41 ** 39), (rings, strand, 41 ** 39),
                                  (alone, rings, math.factorial(40)), (rings, alone, math.factorial(40)),
                                  (strand, alone, math.factorial(39)), (alone, strand, math.factorial(39)),
@@ -168,10 +157,7 @@ class Whole(unittest.TestCase):
     def test_rows_of_twelve_beads(self):
         for seed in range(20):
             one, other = samples.large_set(seed, 12), samples.large_set(seed + 50, 12)
-            row = row_two(one, other)
-            self.assertEqual(len(row), fewest_two(one, other))
-            self.assertEqual(samples.set_behind(one, row), canon(other))
-            self.assertEqual(samples.set_behind(other, [back(deed) for deed in row[::-1]]), canon(one))
+            samples.check_row(self, one, other, row_two(one, other), fewest_two(one, other))
 
     def test_with_beads_renamed(self):
         names = dict(zip(samples.names(12), ["-" + name for name in samples.names(12)[::-1]]))
@@ -184,11 +170,7 @@ class Whole(unittest.TestCase):
     def test_beads_that_stand_in_one_alone(self):
         mixed = ("[a] (b) [d]", "(a) [b] [c]", "c")
         for asked in (fewest_two, firsts_two, row_two, rows_two):
-            for one, other, name in samples.UNLIKE_SETS + (mixed,):
-                for first, second in ((one, other), (other, one)):
-                    with self.assertRaises(Lacks) as taken:
-                        asked(read_set(first), read_set(second))
-                    self.assertEqual(taken.exception.name, name)
+            samples.check_lacks(self, asked, (mixed,))
 
 
 if __name__ == "__main__":
