@@ -81,10 +81,18 @@ def deeds_on(one, other):
     return [((one, other), come) for come in comes]
 
 
-def deeds_from(some):
-    joints = joints_of(some)
+def is_cut_or_join(deed):
+    # All other deeds take away as many joints as come.
+    return len(deed[0]) != len(deed[1])
+
+
+def deeds_among(joints):
     found = [cut_of(joint) for joint in joints if len(joint) == 2]
     for k, one in enumerate(joints):
         for other in joints[k + 1:]:
             found.extend(deeds_on(one, other))
     return sorted(found)
+
+
+def deeds_from(some):
+    return deeds_among(joints_of(some))

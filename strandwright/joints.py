@@ -2,6 +2,7 @@
 
 from strandwright.beads import is_name, is_turned, mirrored, name_of
 from strandwright.canon import canon
+from strandwright.lets import is_whole
 
 # The posts of a line, between which its beads lie.
 POST_AHEAD = ("", 1)
@@ -27,8 +28,7 @@ def rising(things):
 def is_end(thing):
     if not isinstance(thing, tuple) or len(thing) != 2 or not is_name(thing[0]):
         return False
-    side = thing[1]
-    return isinstance(side, int) and not isinstance(side, bool) and side in (0, 1)
+    return is_whole(thing[1]) and thing[1] in (0, 1)
 
 
 def is_joint(thing):

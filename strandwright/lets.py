@@ -1,7 +1,11 @@
-"""What is asked ahead of all else: whether things have the same beads, and whether a set has a ring."""
+"""What is asked ahead of all else: whether things have the same beads, whether a set has a ring, what is a number."""
 
 from strandwright.beads import names_in
 from strandwright.errors import Lacks
+
+
+def is_whole(thing):
+    return isinstance(thing, int) and not isinstance(thing, bool)
 
 
 def refuse_lacks(things):

@@ -7,7 +7,7 @@ from strandwright.canon import canon
 from strandwright.deeds import back, deeds_from, done
 from strandwright.errors import Lacks
 from strandwright.joints import set_of
-from strandwright.texts import read_set
+from strandwright.texts import read_line, read_set
 
 
 def names(count):
@@ -233,3 +233,81 @@ def sets_of_forty():
     """One ring, one open strand, all beads as rings, and all as open strands."""
     ring, rings = (("ring", tuple(names(40))),), tuple(("ring", (name,)) for name in names(40))
     return ring, (("open", ring[0][1]),), rings, tuple(("open", strand[1]) for strand in rings)
+
+
+# Runs of numbers as they stand between 0 and the number behind them all, put together so that they have knots.
+KNOT = (2, 1)
+
+
+def shifted(run, by):
+    return tuple(number + by if number > 0 else number - by for number in run)
+
+
+def framed(run):
+    return (1, *shifted(run, 1), len(run) + 2)
+
+
+def knot_round(run):
+    return (len(run) + 3, *framed(run))
+
+
+def turned_frame(run):
+    return tuple(-number for number in framed(run)[::-1])
+
+
+def in_chain(*runs):
+    whole = ()
+    for k, run in enumerate(runs):
+        whole += (len(whole) + 1,) if k else ()
+        whole += shifted(run, len(whole))
+    return whole
+
+
+def knotty_run(chance, depth):
+    choice = chance.randrange(8) if depth else chance.randrange(3)
+    if choice < 3:
+        return (KNOT, KNOT, ())[choice]
+    if choice < 6:
+        return (knot_round, turned_frame)[choice == 5](knotty_run(chance, depth - 1))
+    return in_chain(*[knotty_run(chance, depth - 1) for number in range(choice - 4)])
+
+
+def knotty_runs(count, depth, most):
+    """So many runs of at most so many numbers, most of them with knots within one another and in chains."""
+    chance = random.Random(count + depth)
+    found = []
+    while len(found) < count:
+        run = knotty_run(chance, depth)
+        if len(run) <= most:
+            found.append(run)
+    return found
+
+
+def numbers_by(run):
+    return [0, *run, len(run) + 1]
+
+
+def line_by(run):
+    """The line whose numbers, with all names in order as theirs, are the run."""
+    some = names(len(run))
+    return tuple(("-" if number < 0 else "") + some[abs(number) - 1] for number in run)
+
+
+# Three branches with two knots each, and the same with a third one short.
+FORTRESS = in_chain(*[knot_round(KNOT)] * 3)
+NEAR_FORTRESS = in_chain(knot_round(KNOT), KNOT, knot_round(KNOT))
+
+
+# Two lines of unlike beads, and the first name, as sorted, that stands in one alone.
+UNLIKE_LINES = (
+    ("|a b|", "|a|", "b"), ("|c b|", "|b a d|", "a"), ("||", "|z y x|", "x"), ("|-b|", "|-a|", "a"), ("|a -c|", "|a -b|", "b"),
+    ("|ab a|", "|a aa|", "aa"), ("|a b|", "|-a -c|", "b"), ("|b -d|", "|-b d e|", "e"),
+)
+
+
+def check_line_lacks(case, asked):
+    for ours, theirs, name in UNLIKE_LINES:
+        for first, second in ((ours, theirs), (theirs, ours)):
+            with case.assertRaises(Lacks) as taken:
+                asked(read_line(first), read_line(second))
+            case.assertEqual(taken.exception.name, name)

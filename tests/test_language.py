@@ -167,9 +167,11 @@ def faults_of(path):
 
 
 def drawn_from(path):
-    tree = ast.parse(path.read_text("utf-8"))
-    return {node.module.split(".")[-1]: [alias.name for alias in node.names]
-            for node in ast.walk(tree) if isinstance(node, ast.ImportFrom)}
+    drawn = {}
+    for node in ast.walk(ast.parse(path.read_text("utf-8"))):
+        if isinstance(node, ast.ImportFrom):
+            drawn.setdefault(node.module.split(".")[-1], []).extend(alias.name for alias in node.names)
+    return drawn
 
 
 class Language(unittest.TestCase):
