@@ -3,10 +3,10 @@
 from strandwright.canon import canon
 from strandwright.deeds import deeds_from, done, is_cut_or_join, is_deed
 from strandwright.errors import NoDeed, NoName, NotLet
-from strandwright.home import fewest_home, firsts_home, row_home
-from strandwright.lets import has_ring
+from strandwright.home import fewest_home, firsts_home, refuse_home, row_home
+from strandwright.lets import has_ring, refuse_lacks
 from strandwright.lines import changes_from, fewest_changes, fewest_turns, firsts_changes, firsts_turns, is_line_deed
-from strandwright.lines import line_behind, row_changes, row_turns, turns_from
+from strandwright.lines import line_behind, refuse_changes, row_changes, row_turns, turns_from
 from strandwright.one import fewest_one, firsts_one, row_one
 from strandwright.two import fewest_two, firsts_two, row_two
 
@@ -15,12 +15,23 @@ LINE_BOOKS = ("turns", "changes")
 
 
 def refuse_no_book(book):
-    if not isinstance(book, str) or book not in BOOKS:
+    if book not in BOOKS:
         raise NoName(book)
 
 
 def is_of_lines(book):
     return book in LINE_BOOKS
+
+
+def refuse_pair(book, one, other):
+    # What each book asks of two things ahead of all else.
+    refuse_no_book(book)
+    if book == "home":
+        refuse_home(one, other)
+    elif book == "changes":
+        refuse_changes(one, other)
+    else:
+        refuse_lacks([one, other])
 
 
 def canon_by(book, thing):

@@ -5,7 +5,7 @@ from strandwright.errors import BadText
 from strandwright.joints import is_joint
 
 FIGURES = "0123456789"
-MOST_FIGURES = 3
+DEED_FIGURES = 3
 # How many numbers stand behind the word of a deed of lines.
 NUMBERS_BEHIND = {"turn": 2, "change": 4}
 
@@ -35,8 +35,8 @@ def show_row(row):
     return "\n".join([show_deed(deed) for deed in row])
 
 
-def read_number(word):
-    if not 1 <= len(word) <= MOST_FIGURES or not all([sign in FIGURES for sign in word]):
+def read_number(word, most):
+    if not 1 <= len(word) <= most or not all([sign in FIGURES for sign in word]):
         raise BadText()
     if len(word) > 1 and word[0] == "0":
         raise BadText()
@@ -61,18 +61,26 @@ def read_joint(word):
 def read_line_deed(words):
     if len(words) != 1 + NUMBERS_BEHIND[words[0]]:
         raise BadText()
-    return tuple(words[:1] + [read_number(word) for word in words[1:]])
+    return tuple(words[:1] + [read_number(word, DEED_FIGURES) for word in words[1:]])
+
+
+def read_joints(words):
+    return tuple([read_joint(word) for word in words])
+
+
+def read_sides(words, middle):
+    # The joints ahead of the one word in the middle, and those behind it.
+    if words.count(middle) != 1:
+        raise BadText()
+    place = words.index(middle)
+    return (read_joints(words[:place]), read_joints(words[place + 1:]))
 
 
 def read_set_deed(words):
-    if words.count("to") != 1:
+    deed = read_sides(words, "to")
+    if not is_deed(deed):
         raise BadText()
-    middle = words.index("to")
-    gone = tuple([read_joint(word) for word in words[:middle]])
-    come = tuple([read_joint(word) for word in words[middle + 1:]])
-    if not is_deed((gone, come)):
-        raise BadText()
-    return (gone, come)
+    return deed
 
 
 def read_deed(text):

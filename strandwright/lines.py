@@ -59,10 +59,15 @@ def fewest_turns(ours, theirs):
     return sum_of_turns(numbers_of(ours, theirs))
 
 
-def fewest_changes(ours, theirs):
-    numbers = numbers_of(ours, theirs)
-    if min(numbers) < 0:
+def refuse_changes(ours, theirs):
+    # A number below 0 is that of a bead turned in one alone.
+    if min(numbers_of(ours, theirs)) < 0:
         raise NotLet("changes")
+
+
+def fewest_changes(ours, theirs):
+    refuse_changes(ours, theirs)
+    numbers = numbers_of(ours, theirs)
     return (len(numbers) - 1 - len(point_rings(numbers))) // 2
 
 

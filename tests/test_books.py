@@ -166,7 +166,7 @@ class Behind(unittest.TestCase):
     def test_things_of_no_form(self):
         cut = deed_of(CUT)
         for deed in (*samples.NO_TEXTS, "", "turn", "turn 0 1", ("turn",), ("turn", 0), ("turn", 0, 1, 2), ("turn", 0, True),
-                     ("turn", False, 1), ("turn", "0", 1), ("turn", 0.0, 1), ("turn", None, 1), ["turn", 0, 1], ("Turn", 0, 1),
+                     ("turn", False, 1), ("turn", "0", 1), ("turn", 0.0, 1), ("turn", None, 1), (samples.Stubborn(), 0, 1), ["turn", 0, 1], ("Turn", 0, 1),
                      ("change", 0, 1), ("change", 0, 1, 1), ("change", 0, 1, True, 2), ("change", False, 1, 1, 2),
                      ("change", 0, 1, 1, 2, 3), ["change", 0, 1, 1, 2], (0, 0, 1), (("turn",), 0, 1), list(cut), (list(cut[0]), cut[1]),
                      (cut[0], cut[1], ()), (cut[0],), ((), ()), (cut[0], cut[0])):

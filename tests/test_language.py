@@ -184,6 +184,15 @@ class Language(unittest.TestCase):
         for path in sorted(PACKAGE.glob("*.py")):
             self.assertEqual(sorted(set(faults_of(path))), [], path.name)
 
+    def test_no_name_is_a_method_and_a_value(self):
+        trees = [ast.parse(path.read_text("utf-8")) for path in PACKAGE.glob("*.py")]
+        classes = [node for tree in trees for node in tree.body if isinstance(node, ast.ClassDef)]
+        methods = {part.name for node in classes for part in node.body if isinstance(part, ast.FunctionDef)}
+        values = {node.attr for some in classes for node in ast.walk(some)
+                  if isinstance(node, ast.Attribute) and isinstance(node.ctx, ast.Store)}
+        self.assertTrue(methods and values)
+        self.assertEqual(methods & values, set())
+
     def test_no_two_files_draw_from_one_another(self):
         draws = {path.stem: set(drawn_from(path)) for path in PACKAGE.glob("*.py")}
         while draws:
