@@ -122,11 +122,12 @@ class AllLines(unittest.TestCase):
             self.assertEqual(plain_fewest("turns", one, other), fewest("turns", one, other))
 
     def test_by_changes(self):
-        for count, signs in itertools.product((0, 1, 2, 3, 4, 5), ((), (0, 2))):
+        few = [(count, signs) for count in (0, 1, 2, 3) for size in range(count + 1) for signs in itertools.combinations(range(count), size)]
+        for count, signs in few + [(4, ()), (4, (0, 2)), (5, ()), (5, (1, 4))]:
             beads = [("-" if k in signs else "") + name for k, name in enumerate(names(count))]
             lines = list(itertools.permutations(beads))
             pairs = behind_by("changes", lines)
-            for one in lines[::max(1, len(lines) // 6)]:
+            for one in lines[::1 if count < 4 else 20]:
                 found = samples.rows_from(one, pairs)
                 for other in lines[::1 if count < 5 else 7]:
                     told = (plain_fewest("changes", one, other), plain_rows("changes", one, other))
